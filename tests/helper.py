@@ -43,8 +43,28 @@ def scattered_row(places, boats, seed):
     return row
 
 
-def with_wrong_wish(row, wrong):
-    """The row with one wish exchanged for a wrong one, for each boat in turn."""
+def scattered_order(boats, seed):
+    keys = scattered_row(10 ** 6, boats, seed)
+    return sorted(range(boats), key=lambda boat: (keys[boat], boat))
+
+
+def is_whole(row):
+    """Whether the row moors whole on a quay with as many places as boats: by its wishes alone, not by mooring."""
+    return all(0 <= wish <= place for place, wish in enumerate(sorted(row)))
+
+
+def whole_rows(boats):
+    return [row for row in all_rows(boats, boats) if is_whole(row)]
+
+
+def scattered_whole_row(boats, seed):
+    """Each boat wishes for a place of its own or one ahead of it, so all find a place."""
+    steps = scattered_row(1000, boats, seed + 500)
+    return [step % (place + 1) for step, place in zip(steps, scattered_order(boats, seed))]
+
+
+def with_wrong_number(row, wrong):
+    """The row with one number exchanged for a wrong one, for each boat in turn."""
     return [row[:boat] + [wrong] + row[boat + 1:] for boat in range(len(row))]
 
 

@@ -18,8 +18,9 @@ def trees():
 class Closed(unittest.TestCase):
     def test_the_modules_are_there(self):
         names = [name for name, tree in trees()]
-        for name in ("__init__.py", "errors.py", "quays.py", "rings.py"):
-            self.assertIn(name, names)
+        stems = ("__init__", "errors", "quays", "rings", "outcomes", "trees", "ranks", "notes")
+        for stem in stems:
+            self.assertIn(f"{stem}.py", names)
 
     def test_imports_are_the_programs_own(self):
         for name, tree in trees():

@@ -3,7 +3,7 @@
 import itertools
 import unittest
 
-from tests.helper import FAR, MoorCase, scattered_row, small_quay_rows, with_wrong_wish
+from tests.helper import FAR, MoorCase, scattered_row, small_quay_rows, with_wrong_number
 from wishmoor.errors import NoQuay, NoRow
 from wishmoor.quays import crowd, moored
 
@@ -76,7 +76,7 @@ class Rows(MoorCase):
             for long in (1, 2, 5, 39, 40):
                 for boats in sorted({1, (long + 1) // 2, long}):
                     for wrong in (-1, -2, -long, long, long + 1, 1000, FAR, -FAR):
-                        for row in with_wrong_wish([0] * boats, wrong):
+                        for row in with_wrong_number([0] * boats, wrong):
                             with self.subTest(call=call.__name__, long=long, row=row):
                                 self.assert_refused(NoRow, call, long, row)
 

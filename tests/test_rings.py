@@ -3,7 +3,7 @@
 import itertools
 import unittest
 
-from tests.helper import FAR, MoorCase, scattered_row, small_ring_rows, with_wrong_wish
+from tests.helper import FAR, MoorCase, scattered_row, small_ring_rows, with_wrong_number
 from wishmoor.errors import NoRow
 from wishmoor.quays import moored
 from wishmoor.rings import left_free, luck, ring_moored, turned
@@ -63,7 +63,7 @@ class Refusals(MoorCase):
         for call in ALL:
             for boats in (1, 2, 5, 38, 39):
                 for wrong in (-1, -2, -boats - 1, boats + 1, boats + 2, 1000, FAR, -FAR):
-                    for row in with_wrong_wish([0] * boats, wrong):
+                    for row in with_wrong_number([0] * boats, wrong):
                         with self.subTest(call=call.__name__, row=row):
                             self.assert_refused(NoRow, call, row)
 

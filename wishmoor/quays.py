@@ -46,3 +46,11 @@ def crowd(long, wishes):
         if boats > long - place:
             return place
     return None
+
+
+def check_whole(wishes, most):
+    boats = len(wishes)
+    if boats < 1 or boats > most:
+        raise NoRow("there is no boat, or there are too many")
+    if crowd(boats, wishes) is not None:
+        raise NoRow("the row does not moor whole")
